@@ -30,6 +30,11 @@ def check_net(places, roads):
         raise NoNet("from each place one road at least goes")
 
 
+def check_place(place, places):
+    if not lies_within(place, places):
+        raise NoPlace("the net does not have that place")
+
+
 class Net:
     """Places and roads, both numbered from 0."""
 
@@ -47,6 +52,5 @@ class Net:
         return list(self.road_pairs)
 
     def exits(self, place):
-        if not lies_within(place, self.place_count):
-            raise NoPlace("the net does not have that place")
+        check_place(place, self.place_count)
         return [number for number, road in enumerate(self.road_pairs) if road[0] == place]

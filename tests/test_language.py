@@ -20,6 +20,9 @@ OWN_NAMES = """len range enumerate zip min max sum abs sorted reversed int str b
     StopIteration""".split()
 BANNED_WORDS = """type typing typing_extensions enum Enum IntEnum StrEnum Flag IntFlag Generic Protocol ABC ABCMeta
     namedtuple NamedTuple TypedDict TYPE_CHECKING abstractmethod""".split()
+METHODS_OF_PYTHON = """append clear copy count endswith extend find get index insert isalnum isalpha isdigit islower
+    isspace isupper items join keys ljust lower lstrip partition pop remove replace reverse rfind rjust rpartition
+    rsplit rstrip setdefault split splitlines startswith strip update upper values zfill bit_length""".split()
 METHODS_WITH_UNDERSCORES = ["__init__", "__eq__", "__repr__", "__str__", "__len__"]
 
 
@@ -33,6 +36,11 @@ def file_texts():
 
 def all_nodes():
     return [node for text in file_texts() for node in ast.walk(ast.parse(text))]
+
+
+def own_methods():
+    classes = [node for node in all_nodes() if isinstance(node, ast.ClassDef)]
+    return [one.name for node in classes for one in node.body if isinstance(one, ast.FunctionDef)]
 
 
 def bound_names(node):
@@ -101,6 +109,59 @@ class LanguageTest(unittest.TestCase):
             if isinstance(node, ast.Constant):
                 self.assertIsInstance(node.value, (int, str, type(None)))
                 self.assertNotIn("%", str(node.value))
+
+    def test_one_target_in_an_assignment(self):
+        for node in all_nodes():
+            if isinstance(node, ast.Assign):
+                self.assertEqual(len(node.targets), 1)
+                self.assertNotIsInstance(node.targets[0], ast.Tuple)
+
+    def test_comprehensions(self):
+        for node in all_nodes():
+            if isinstance(node, ast.ListComp):
+                self.assertEqual(len(node.generators), 1)
+                self.assertLessEqual(len(node.generators[0].ifs), 1)
+
+    def test_is_stands_beside_none_true_and_false(self):
+        for node in all_nodes():
+            if isinstance(node, ast.Compare) and isinstance(node.ops[0], (ast.Is, ast.IsNot)):
+                self.assertEqual(len(node.ops), 1)
+                self.assertIn(ast.unparse(node.comparators[0]), ["None", "True", "False"])
+
+    def test_exponents_are_written(self):
+        for node in all_nodes():
+            if isinstance(node, ast.BinOp) and isinstance(node.op, ast.Pow):
+                self.assertIsInstance(node.right, ast.Constant)
+                self.assertIn(node.right.value, range(65))
+
+    def test_methods(self):
+        own = own_methods()
+        for node in all_nodes():
+            if isinstance(node, ast.Call) and isinstance(node.func, ast.Attribute):
+                self.assertIn(node.func.attr, METHODS_OF_PYTHON + own)
+
+    def test_no_name_is_a_method_and_a_value(self):
+        values = [node for node in all_nodes() if isinstance(node, ast.Attribute)]
+        stored = [node.attr for node in values if isinstance(node.ctx, ast.Store)]
+        self.assertEqual(sorted(set(stored) & set(own_methods())), [])
+
+    def test_locals_are_not_called_like_imports_or_classes(self):
+        for text in file_texts():
+            nodes = list(ast.walk(ast.parse(text)))
+            taken = [one.name for node in nodes if isinstance(node, ast.ImportFrom) for one in node.names]
+            taken += [node.name for node in nodes if isinstance(node, ast.ClassDef)]
+            local = [name for node in nodes if isinstance(node, (ast.Name, ast.arg)) for name in bound_names(node)]
+            self.assertEqual(sorted(set(taken) & set(local)), [])
+
+    def test_no_two_files_draw_from_one_another(self):
+        drawn = {}
+        for path in package_files():
+            nodes = ast.walk(ast.parse(path.read_text(encoding="utf-8")))
+            drawn[path.stem] = {node.module.split(".")[1] for node in nodes if isinstance(node, ast.ImportFrom)}
+        while drawn:
+            free = [name for name in drawn if not drawn[name] & set(drawn)]
+            self.assertNotEqual(free, [], drawn)
+            drawn = {name: drawn[name] for name in drawn if name not in free}
 
 
 if __name__ == "__main__":
